@@ -1,0 +1,1 @@
+"""Crewclocks: what crews with clocks of their own can tell."""

@@ -1,0 +1,68 @@
+"""Names, files and parameters, as the document's interface tells them."""
+
+import ast
+import importlib
+import inspect
+import pathlib
+import unittest
+
+PACKAGE = pathlib.Path(__file__).resolve().parent.parent / "crewclocks"
+
+FUNCTIONS = {
+    "events": {
+        "sequence": ["one", "other"],
+        "shows_sequence": ["one", "other", "value"],
+        "seen": ["event", "pace"],
+        "shifted": ["event", "by"],
+        "mirrored": ["event"],
+        "own_square": ["one", "other"],
+        "together": ["pace", "one", "other"],
+    },
+    "flights": {
+        "when": ["flight", "event"],
+        "seen_flight": ["flight", "pace"],
+        "joined": ["one", "other"],
+        "cut": ["flight", "time"],
+        "slack": ["flight"],
+    },
+}
+METHODS = {
+    ("flights", "Flight"): {
+        "__init__": ["self", "text"],
+        "__len__": ["self"],
+        "__eq__": ["self", "other"],
+        "at": ["self", "time"],
+        "pace_at": ["self", "time"],
+    },
+}
+
+
+def parameters(thing):
+    return list(inspect.signature(thing).parameters)
+
+
+def defined(module):
+    """The names of what stands in the file of this module as def or class."""
+    tree = ast.parse((PACKAGE / f"{module}.py").read_text())
+    return [node.name for node in tree.body if isinstance(node, (ast.FunctionDef, ast.ClassDef))]
+
+
+class Interface(unittest.TestCase):
+    def test_functions_stand_in_their_files_with_their_parameters(self):
+        for module, functions in FUNCTIONS.items():
+            found = importlib.import_module(f"crewclocks.{module}")
+            for name, expected in functions.items():
+                self.assertIn(name, defined(module))
+                self.assertEqual(parameters(getattr(found, name)), expected, name)
+
+    def test_methods_stand_in_their_classes_with_their_parameters(self):
+        for (module, name), methods in METHODS.items():
+            found = getattr(importlib.import_module(f"crewclocks.{module}"), name)
+            self.assertIn(name, defined(module))
+            for method, expected in methods.items():
+                self.assertIn(method, vars(found))
+                self.assertEqual(parameters(vars(found)[method]), expected, method)
+
+
+if __name__ == "__main__":
+    unittest.main()
