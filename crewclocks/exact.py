@@ -3,6 +3,7 @@
 from math import gcd
 
 ZERO = (0, 1)
+ONE = (1, 1)
 
 
 def is_plain_integer(value):
@@ -92,3 +93,41 @@ def read_above_zero(word):
     if fraction is None or fraction[0] <= 0:
         return None
     return fraction
+
+
+def read_time(word):
+    """The time that is written so; None if none is."""
+    fraction = read_fraction(word)
+    if fraction is None or fraction[0] < 0:
+        return None
+    return fraction
+
+
+def inverse(fraction):
+    """1 by the fraction, which is above 0."""
+    return fraction[1], fraction[0]
+
+
+def by_worth(rows):
+    """The rows, ascending by the fraction that stands first in each; rows of one worth as they stood."""
+    if len(rows) < 2:
+        return list(rows)
+    middle = len(rows) // 2
+    first, rest = by_worth(rows[:middle]), by_worth(rows[middle:])
+    merged = []
+    taken = 0
+    for row in rest:
+        while taken < len(first) and not is_less(row[0], first[taken][0]):
+            merged.append(first[taken])
+            taken += 1
+        merged.append(row)
+    return merged + first[taken:]
+
+
+def is_same(value, told):
+    """Whether any value is what is told, tuples within tuples; Python alone would take True for 1."""
+    if isinstance(told, tuple):
+        if not isinstance(value, tuple) or len(value) != len(told):
+            return False
+        return all([is_same(part, other) for part, other in zip(value, told)])
+    return isinstance(value, bool) == isinstance(told, bool) and value == told

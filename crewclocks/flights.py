@@ -1,5 +1,6 @@
 """Flights: a first event, a pace, then lines that fly on or turn."""
 
+from crewclocks.courses import pace_then, place_at, time_at
 from crewclocks.errors import BadFlight, BadTime
 from crewclocks.events import check_event, flown, growth, seen
 from crewclocks.exact import ZERO, added, divided, is_less, is_time, multiplied, subtracted
@@ -33,12 +34,13 @@ class Flight:
 
     def at(self, time):
         """The event at which it is at this own time."""
-        begun, event, pace = stop_before(self, time)
-        return flown(event, pace, subtracted(time, begun))
+        check_time(self, time)
+        return place_at(self, time)
 
     def pace_at(self, time):
         """The pace with which it flies on from this own time."""
-        return stop_before(self, time)[2]
+        check_time(self, time)
+        return pace_then(self, time)
 
 
 def read_flight(text):
@@ -106,24 +108,16 @@ def pieces_of(stops):
     return tuple([(here[2], subtracted(there[0], here[0])) for here, there in zip(stops, stops[1:])])
 
 
-def stop_before(flight, time):
-    """The last stop of the flight that is not later than this own time."""
+def check_time(flight, time):
     if not is_time(time) or is_less(flight.whole, time):
         raise BadTime(time)
-    return [stop for stop in flight.stops if not is_less(time, stop[0])][-1]
 
 
 def when(flight, event):
     """The flight's own time at this event; None if it never is there."""
     check_event(event)
-    # u grows all the time, so the last stop without more u is the only one to fly on from.
-    passed = [stop for stop in flight.stops if not is_less(event[0], stop[1][0])]
-    if not passed:
-        return None
-    begun, place, pace = passed[-1]
-    gone = divided(subtracted(event[0], place[0]), pace)
-    time = added(begun, gone)
-    if is_less(flight.whole, time) or flown(place, pace, gone) != event:
+    time = time_at(flight, 0, event[0])
+    if time is None or place_at(flight, time) != event:
         return None
     return time
 

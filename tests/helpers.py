@@ -81,3 +81,34 @@ class Raises:
         self.assertIs(type(caught.exception), kind)
         self.assertIs(type(caught.exception.value), int)
         self.assertEqual(caught.exception.value, number)
+
+
+def no_names():
+    """Values of all kinds, none of them a ship's name or a flash's word."""
+    return [value for value in no_fractions() if not isinstance(value, str)] + [
+        "", "1", "1/2", "a b", "abcdefg", "A", "aB", "a1", "a_b", "a-b", "a.b", " a", "a ", "a\n", "\n", "a\nb", "Z",
+        ("a",), ["a"], {"a": 1}, b"a", "12", "e\u0301", "\u00e9", "\u03b1",
+    ]
+
+
+def strict_parts(value):
+    """All parts, however deep, of tuples within tuples."""
+    if not isinstance(value, tuple):
+        return [value]
+    return [value] + [part for inner in value for part in strict_parts(inner)]
+
+
+def near(value):
+    """Values that differ from these tuples within tuples in one place, also by a list or by True in the place of 1."""
+    if isinstance(value, tuple):
+        found = [list(value), value + (None,), value[:-1] if value else None, (value,)]
+        for k, part in enumerate(value):
+            found.extend([value[:k] + (other,) + value[k + 1:] for other in near(part)])
+        return found
+    if isinstance(value, bool):
+        return [int(value), not value, None]
+    if isinstance(value, int):
+        return ([bool(value)] if value in (0, 1) else []) + [value + 1, value - 1, str(value), None]
+    if isinstance(value, str):
+        return [value + "x", value[:-1] + "z" if value[-1:] != "z" else "", None, (value,), value.upper() + "!"]
+    return [0, False, (), ""]

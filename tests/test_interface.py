@@ -25,6 +25,23 @@ FUNCTIONS = {
         "cut": ["flight", "time"],
         "slack": ["flight"],
     },
+    "flashes": {
+        "heard": ["flight", "event"],
+        "colour": ["side", "sender", "hearer"],
+        "told_first": ["flight", "event"],
+        "thrown_plain": ["time", "factor", "many"],
+        "thrown": ["time", "factor", "many", "modulus"],
+    },
+    "skies": {
+        "seen_sky": ["sky", "pace"],
+        "shifted_sky": ["sky", "by"],
+        "mirrored_sky": ["sky"],
+        "renamed": ["sky", "names"],
+    },
+    "runs": {
+        "run": ["sky"],
+        "why": ["sky", "name"],
+    },
 }
 METHODS = {
     ("flights", "Flight"): {
@@ -33,6 +50,11 @@ METHODS = {
         "__eq__": ["self", "other"],
         "at": ["self", "time"],
         "pace_at": ["self", "time"],
+    },
+    ("skies", "Sky"): {
+        "__init__": ["self", "text"],
+        "__len__": ["self"],
+        "__eq__": ["self", "other"],
     },
 }
 
