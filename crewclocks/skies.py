@@ -46,7 +46,7 @@ def add_ship(ships, line):
     ship = read_ship(line)
     if ship is None or len(ships) == MOST_SHIPS or ship[0] in [earlier[0] for earlier in ships]:
         return False
-    ships.append((*ship, []))
+    ships.append(ship + ([],))
     return True
 
 
@@ -129,4 +129,4 @@ def renamed(sky, names):
         raise BadNames(names)
     if not all([is_name(name) for name in names]) or len(set(names)) != len(names):
         raise BadNames(names)
-    return sky_of([(name, *ship[1:]) for name, ship in zip(names, sky.ships)])
+    return sky_of([(name,) + ship[1:] for name, ship in zip(names, sky.ships)])

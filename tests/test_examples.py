@@ -72,6 +72,77 @@ SECTION_7 = r"""
 ['sky\nship d 0 0 1/2\nfly 5\nship e -3 3 1\nfly 6', ('m', 'd'), ((1, 2), (0, 1)), (((3, 2), (-6, 1)), (1, 2))]
 """
 
+SECTION_8 = r"""
+>>> from crewclocks.changes import edge, edited, kept, run_again, unlike_rows
+>>> from crewclocks.runs import run
+>>> from crewclocks.skies import Sky
+>>> two = Sky('sky\nship a 0 0 1\nfly 1\nflash x\nfly 4\nship b 1 -1 1\nuntil left x\nflash y\nfly 1')
+>>> [run(two)[0][3], run(two)[1][3]]
+[(((1, 1), 'sent', 'x'), ((3, 1), 'heard', 'right', 'b', 'y', (1, 1))), (((2, 1), 'heard', 'left', 'a', 'x', (1, 1)), ((2, 1), 'sent', 'y'))]
+>>> still = ('drop', 'b', 1)
+>>> [edge(two, still), kept(two, still), unlike_rows(two, edited(two, still))]
+[((3, 1), (1, 1)), (('a', 1), ('b', 0)), (('a', 1), ('b', 1))]
+>>> quick = ('add', 'a', 1, 'turn 2')
+>>> [edge(two, quick), kept(two, quick), run_again(two, quick, run(two))[1][3][0]]
+[((1, 1), (1, 1)), (('a', 0), ('b', 0)), ((2, 1), 'heard', 'left', 'a', 'x', (2, 1))]
+"""
+
+SECTION_9 = r"""
+>>> from crewclocks.books import Book, book_of, own_place, with_saying, without_saying
+>>> from crewclocks.skies import Sky
+>>> book = Book('book\nship a\nship b\nfelt a 2 3/2\nheard a 4 right b 1 2\npassed a 0 b 0 1/2')
+>>> [book.names, book.felt, book.sayings[0], len(book)]
+[('a', 'b'), (('a', (2, 1), (3, 2)),), ('heard', 'a', (4, 1), 'right', 'b', (1, 1), (2, 1)), 2]
+>>> [own_place(book, 'a', time) for time in ((0, 1), (2, 1), (4, 1))]
+[((1, 1), (0, 1), (0, 1)), ((3, 2), (2, 1), (2, 1)), ((3, 2), (5, 1), (10, 3))]
+>>> without_saying(book, 0).text == 'book\nship a\nship b\nfelt a 2 3/2\npassed a 0 b 0 1/2'
+True
+>>> with_saying(book, 'passed b 3 a 1/2 2').sayings[-1]
+('passed', 'b', (3, 1), 'a', (1, 2), (2, 1))
+>>> sky = Sky('sky\nship a 0 0 1\nflash x\nfly 4\nship b 2 -2 2\nfly 5\nturn 1/2\nturn 3')
+>>> book_of(sky).text.split('\n')
+['book', 'ship a', 'ship b', 'heard b 4 left a 0 1/2', 'felt b 5 3/2']
+"""
+
+SECTION_10 = r"""
+>>> from crewclocks.books import Book
+>>> from crewclocks.fitting import fits, is_placing, least_bars, needless, paces, parts, shows_fits
+>>> rows = ['book', 'ship ann', 'ship bob', 'passed ann 0 bob 0 2', 'heard bob 2 left ann 1 1/2', 'heard ann 4 right bob 2 1/2']
+>>> book = Book('\n'.join(rows))
+>>> here = ((0, 1), (0, 1))
+>>> [fits(book)[0], parts(book), paces(book), least_bars(book)]
+['placing', (('ann', 'bob'),), (('ann', (1, 1)), ('bob', (2, 1))), ()]
+>>> [is_placing(book, (('ann', here, (1, 1)), ('bob', here, (2, 1)))), is_placing(book, (('ann', here, (1, 1)), ('bob', here, (3, 1))))]
+[True, False]
+>>> is_placing(book, (('ann', ((7, 1), (-1, 1)), (1, 2)), ('bob', ((7, 1), (-1, 1)), (1, 1))))
+True
+>>> [needless(book, number) for number in (0, 1, 2)]
+[True, True, True]
+>>> late = Book('\n'.join(rows[:5] + ['heard ann 5 right bob 2 1/2']))
+>>> [fits(late)[0], [shows_fits(late, ('short', plane, ((0, 1), (2, -1)))) for plane in 'uv'], least_bars(late)]
+['short', [True, False], ((0, 2),)]
+>>> red = Book('\n'.join(rows[:4] + ['heard bob 2 left ann 1 1/3']))
+>>> [fits(red)[0], shows_fits(red, ('colours', ((0, 1), (1, 1)))), shows_fits(red, ('colours', ((1, -1), (0, -1))))]
+['colours', True, True]
+"""
+
+SECTION_11 = r"""
+>>> from crewclocks.books import Book
+>>> from crewclocks.gaps import gap, one_sky, shows_gap, surely
+>>> first = Book('book\nship a\nship b\nheard b 1 left a 1 1')
+>>> a, b = ('a', (0, 1)), ('b', (0, 1))
+>>> [gap(first, 'u', a, b), gap(first, 'v', a, b)]
+[(((0, 1), False, ((0, 1),)), None), (((0, 1), True, ((0, 1),)), ((0, 1), True, ((0, -1),)))]
+>>> [surely(first, a, b), surely(first, b, a)[0], one_sky(first)[:2]]
+[('ahead', ((0, 1),), ((0, 1),)), 'not', ('slides', 'u')]
+>>> both = Book(first.text + '\nheard a 3 right b 2 1')
+>>> [gap(both, 'u', a, b)[0], gap(both, 'u', a, b)[1], one_sky(both)]
+[((1, 1), True, ((1, -1),)), ((1, 1), True, ((1, 1),)), ('one',)]
+>>> slower = Book('book\nship a\nship b\npassed b 2 a 3 1/2')
+>>> [gap(slower, 'u', a, b)[0][0], gap(slower, 'u', b, a)[0][0], gap(slower, 'v', a, b)[0][0]]
+[(-1, 1), (1, 2), (2, 1)]
+"""
+
 SECTION_18 = r"""
 >>> from crewclocks.errors import BadPace, CrewError
 >>> isinstance(BadPace(0), CrewError), BadPace(('a', 1)).value
@@ -98,6 +169,18 @@ class Examples(unittest.TestCase):
 
     def test_section_7(self):
         self.run_section("section 7", SECTION_7)
+
+    def test_section_8(self):
+        self.run_section("section 8", SECTION_8)
+
+    def test_section_9(self):
+        self.run_section("section 9", SECTION_9)
+
+    def test_section_10(self):
+        self.run_section("section 10", SECTION_10)
+
+    def test_section_11(self):
+        self.run_section("section 11", SECTION_11)
 
     def test_section_18(self):
         self.run_section("section 18", SECTION_18)

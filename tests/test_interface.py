@@ -42,6 +42,36 @@ FUNCTIONS = {
         "run": ["sky"],
         "why": ["sky", "name"],
     },
+    "changes": {
+        "edge": ["sky", "edit"],
+        "edited": ["sky", "edit"],
+        "kept": ["sky", "edit"],
+        "run_again": ["sky", "edit", "told"],
+        "unlike_rows": ["one", "other"],
+    },
+    "books": {
+        "own_place": ["book", "name", "time"],
+        "with_saying": ["book", "line"],
+        "without_saying": ["book", "number"],
+        "book_of": ["sky"],
+    },
+    "fitting": {
+        "is_placing": ["book", "value"],
+        "fits": ["book"],
+        "shows_fits": ["book", "value"],
+        "parts": ["book"],
+        "paces": ["book"],
+        "needless": ["book", "number"],
+        "least_bars": ["book"],
+    },
+    "gaps": {
+        "gap": ["book", "plane", "one", "other"],
+        "shows_gap": ["book", "plane", "one", "other", "value"],
+        "surely": ["book", "one", "other"],
+        "shows_surely": ["book", "one", "other", "value"],
+        "one_sky": ["book"],
+        "shows_one_sky": ["book", "value"],
+    },
 }
 METHODS = {
     ("flights", "Flight"): {
@@ -50,6 +80,11 @@ METHODS = {
         "__eq__": ["self", "other"],
         "at": ["self", "time"],
         "pace_at": ["self", "time"],
+    },
+    ("books", "Book"): {
+        "__init__": ["self", "text"],
+        "__len__": ["self"],
+        "__eq__": ["self", "other"],
     },
     ("skies", "Sky"): {
         "__init__": ["self", "text"],
