@@ -180,9 +180,10 @@ def spread(edges, found):
     parts = 1
     for edge in edges:
         here, there = found[edge.start], found[edge.end]
-        top, bottom = subtracted(subtracted(there.worth, here.worth), edge.worth)
-        if top > 0 and here.strict > there.strict:
-            # So many parts of 1 that what here is more by for its strict steps stays below the room.
+        if here.strict > there.strict:
+            # There is room then, as there would be no fewer strict steps otherwise: so many parts of 1 that
+            # what here is more by for its strict steps stays below it.
+            top, bottom = subtracted(subtracted(there.worth, here.worth), edge.worth)
             parts = max(parts, bottom * (here.strict - there.strict) // top + 1)
     return {name: added(reached.worth, in_least_terms(reached.strict, parts)) for name, reached in found.items()}
 

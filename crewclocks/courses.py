@@ -73,7 +73,7 @@ def meetings(one, other):
             found.append(points[k + 1])
         elif (rooms[k][0] < 0) != (rooms[k + 1][0] < 0):
             found.append(crossing(points[k], points[k + 1], rooms[k], rooms[k + 1]))
-    if points and one.whole is None and other.whole is None:
+    if one.whole is None and other.whole is None:
         found.extend(last_crossing(one, other, points[-1], rooms[-1]))
     return [(time_at(one, 0, point), time_at(other, 0, point)) for point in found]
 

@@ -1,6 +1,6 @@
 """Whether there is a sky in which all sayings of a book are so: a placing of its ships, or a ring that bars it."""
 
-from crewclocks.bounds import Frame, are_apart, barred, colour_ring, edges_of, farthest, lots_of, placed
+from crewclocks.bounds import Frame, barred, colour_ring, edges_of, farthest, lots_of, placed
 from crewclocks.books import own_place, without_saying
 from crewclocks.errors import NoPaces, Wide
 from crewclocks.events import is_event
@@ -96,8 +96,6 @@ def needless(book, number):
     if barred(frame) is not None:
         return True
     tie = Tie(book, book.sayings[number])
-    if are_apart(frame, tie.name, tie.other):
-        return False
     if frame.paces[tie.name] != multiplied(frame.paces[tie.other], tie.factor):
         return False
     return all([follows(frame, tie, plane) for plane in PLANES])

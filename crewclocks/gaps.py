@@ -180,6 +180,6 @@ def shows_one_sky(book, value):
         name, its_name = value[1:]
         return name in book.names and its_name in book.names and are_apart(Frame(book), name, its_name)
     plane, one, other = value[1:]
-    if plane not in PLANES or not is_moment(book, one) or not is_moment(book, other) or one[0] == other[0]:
+    if plane not in PLANES or not is_moment(book, one) or not is_moment(book, other):
         return False
     return slides(book, plane, one, other)

@@ -90,9 +90,10 @@ def ships_on(ties, path):
 
 def is_ring(ties, value):
     """Whether any value is a ring, barring or not."""
-    if not is_path(ties, value) or len(value) < 2:
+    if not is_path(ties, value):
         return False
     ships = ships_on(ties, value)
+    # No saying leads from a ship to itself, so one step alone does not come back.
     if ships[0] != ships[-1] or len(set(ships)) != len(value):
         return False
     return len(set([number for number, _ in value])) == len(value)

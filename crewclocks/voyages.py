@@ -91,7 +91,8 @@ def fly_on(voyage, time):
 
 def wait(voyage, side, flash):
     """How long it takes by its own clock until the flash comes from this side; None if it is not to be had."""
-    if flash is None or flash[0] == voyage.name:
+    # One of its own need not be barred: no flash ever comes to the ship that sent it.
+    if flash is None:
         return None
     told = hearing(Course(((ZERO, voyage.event, voyage.pace),), None), flash[1])
     if told is None or told[0] != side or told[1] == ZERO:

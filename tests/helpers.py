@@ -101,7 +101,7 @@ def strict_parts(value):
 def near(value):
     """Values that differ from these tuples within tuples in one place, also by a list or by True in the place of 1."""
     if isinstance(value, tuple):
-        found = [list(value), value + (None,), value[:-1] if value else None, (value,)]
+        found = [list(value), value + (None,), value[:-1] if value else None, (value,), None]
         for k, part in enumerate(value):
             found.extend([value[:k] + (other,) + value[k + 1:] for other in near(part)])
         return found

@@ -315,6 +315,10 @@ class BookOf(Raises, unittest.TestCase):
         self.assertEqual(book_of(Sky("\n".join(["sky", *lines]))).text.split("\n"), [
             "book", "ship a", "ship b", "passed a 8/3 b 10/3 1/2", "heard b 4 right a 3 1/2"])
 
+    def test_words_like_names(self):
+        sky = Sky("sky\nship a 0 0 1\nflash b\nship b 2 -2 1\nflash a\nfly 3")
+        self.assertEqual(book_of(sky).text, "book\nship a\nship b\nheard b 2 left a 0 1")
+
     def test_just_40_lines_and_41(self):
         def sky(many):
             rows = ["sky", "ship a 0 0 1"] + ["fly 1", "turn 2"] * 10 + ["ship b 90 -90 1"] + ["fly 1", "turn 2"] * 10

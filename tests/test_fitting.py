@@ -201,6 +201,18 @@ class Fits(unittest.TestCase):
         self.assertEqual(worth(placing["b"][1]) - worth(placing["a"][1]), 1)
         self.assertGreater(worth(placing["b"][0]) - worth(placing["a"][0]), 1)
 
+    def test_many_strict_steps_within_little_room(self):
+        # In u: a, b, c, d one to the right of the other, and d to the left of e, which is a bit to the right of a.
+        rows = ["book"] + [f"ship {name}" for name in "abcde"]
+        rows += [f"heard {other} 1 left {name} 1 1" for name, other in ("ab", "bc", "cd")]
+        for room in ("1/100", "2/7", "1", "3", "999999999999/1000000000000"):
+            more = Fraction(room) + 1
+            for last in ("heard e 1 left d 1 1", ""):
+                text = "\n".join(rows + [f"heard a {more} right e 1 1"] + ([last] if last else []))
+                told = fits(Book(text))
+                self.assertEqual(told[0] == "placing", Told(text).fits())
+                self.assertIs(shows_fits(Book(text), told), True, text)
+
     def test_names_lines_and_sides_otherwise(self):
         chance = Random(35)
         for text in BOOKS[::2]:
@@ -328,6 +340,17 @@ class IsPlacing(unittest.TestCase):
         self.assertGreater(right, 30)
 
 
+    def test_a_passing_with_another_factor(self):
+        book = Book(TWO + "passed b 0 a 0 1/2")
+        for pace, expected in (((2, 1), True), ((1, 1), False), ((1, 2), False)):
+            self.assertIs(is_placing(book, (("a", HERE, (1, 1)), ("b", HERE, pace))), expected)
+
+    def test_words_more(self):
+        right = (("ann", HERE, (1, 1)), ("bob", HERE, (2, 1)))
+        for value in (("placing", "u", right), ("placing", None, right), ("placing", right, right), ("short", right)):
+            self.assertIs(shows_fits(Book(GOOD), value), False)
+
+
 class Rings(unittest.TestCase):
     def test_begun_elsewhere_turned_about_a_step_out_twice(self):
         many = 0
@@ -362,6 +385,19 @@ class Rings(unittest.TestCase):
                           ("colour", ring), (None, ring), ("placing", ring), [*head, ring], head + (ring, None), ring):
                 self.assertIs(shows_fits(book, value), False)
         self.assertGreater(many, 100)
+
+    def test_ending_elsewhere(self):
+        book = Book("book\nship a\nship b\nship c\npassed b 0 a 0 2\npassed c 0 b 0 2\npassed c 1 b 1 5")
+        self.assertIs(shows_fits(book, ("colours", ((1, 1), (2, -1)))), True)
+        for ring in (((0, 1), (1, 1), (2, -1)), ((1, 1), (2, -1), (0, -1)), ((0, 1),), ((1, 1),), ((0, 1), (1, 1))):
+            self.assertIs(shows_fits(book, ("colours", ring)), False)
+
+    def test_ships_called_like_sides(self):
+        rows = ["book", "ship left", "ship right", "passed left 2 right 2 3", "heard right 5 left left 1 1/3"]
+        book = Book("\n".join(rows))
+        self.assertEqual(paces(book), (("left", (1, 1)), ("right", (3, 1))))
+        self.assertEqual(fits(book)[0] == "placing", Told(book.text).fits())
+        self.assertIs(shows_fits(book, ("colours", ((0, 1), (1, 1)))), False)
 
     def test_ships_twice(self):
         # A walk of two rings that share a ship is no ring.
@@ -439,6 +475,12 @@ class Needless(Raises, unittest.TestCase):
         rows = "book\nship a\nship b\nship c\nheard b 1 left a 1 1\nheard c 1 left b 1 1\nheard c 1 left a 1 1"
         self.assertEqual([needless(Book(rows), number) for number in range(3)], [False, False, True])
         self.assertEqual([needless(Book(rows[:-1] + "2"), number) for number in range(3)], [False] * 3)
+
+    def test_one_that_the_others_contradict(self):
+        book = Book(TWO + "passed b 2 a 1 1\nheard b 2 left a 1 1")
+        self.assertEqual([needless(book, number) for number in (0, 1)], [False, False])
+        book = Book(TWO + "passed b 2 a 1 1\nheard b 2 right a 1 1")
+        self.assertEqual([needless(book, number) for number in (0, 1)], [False, False])
 
     def test_beside_others_that_no_placing_fits(self):
         book = Book(TWO + "passed a 0 b 0 1\npassed a 1 b 2 1\npassed a 1 b 3 1")

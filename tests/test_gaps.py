@@ -357,6 +357,13 @@ class OneSky(unittest.TestCase):
             self.assertIs(shows_one_sky(book, ("slides", "u", one, other)), True)
             self.assertIs(shows_one_sky(book, ("slides", "u", other, one)), True)
 
+    def test_planes(self):
+        for line, plane in (("heard b 1 left a 1 1", "u"), ("heard b 1 right a 1 1", "v"),
+                            ("heard b 1 right a 2 2\nheard b 2 right a 4 2", "v")):
+            book = Book(f"book\nship a\nship b\n{line}")
+            for value in ("u", "v", "w", "", None, True, ("u",), "U"):
+                self.assertIs(shows_one_sky(book, ("slides", value, A, B)), value == plane)
+
     def test_apart(self):
         book = Book("book\nship a\nship b\nship c\nship d\npassed c 0 a 1 2")
         for one, other in product("abcd", repeat=2):

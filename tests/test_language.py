@@ -23,9 +23,10 @@ LIBRARY = {
     "collections": "defaultdict deque",
 }
 BARRED_NODES = (
-    ast.AsyncFunctionDef, ast.AsyncFor, ast.AsyncWith, ast.Await, ast.TryStar, ast.Div, ast.MatMult, ast.Import)
+    ast.AsyncFunctionDef, ast.AsyncFor, ast.AsyncWith, ast.Await, ast.TryStar, ast.Div, ast.MatMult, ast.Import,
+    ast.GeneratorExp, ast.Yield, ast.YieldFrom, ast.Global, ast.Nonlocal, ast.AnnAssign)
 BARRED_WORDS = re.compile(
-    r"\b(typing|typing_extensions|enum|Enum|IntEnum|StrEnum|Flag|IntFlag|Generic|Protocol|ABC|ABCMeta|namedtuple|"
+    r"\b(type|typing|typing_extensions|enum|Enum|IntEnum|StrEnum|Flag|IntFlag|Generic|Protocol|ABC|ABCMeta|namedtuple|"
     r"NamedTuple|TypedDict|TYPE_CHECKING|abstractmethod|_wall|_WallAttr)\b|dataclass|overload|contextmanager")
 BARRED_NAMES = set(
     "register mro elements open input law version_info with_traceback add_note eval exec compile globals locals "
@@ -129,6 +130,8 @@ class Language(unittest.TestCase):
         for _, text, tree in self.each_file():
             for node in ast.walk(tree):
                 self.assertNotIsInstance(node, BARRED_NODES)
+                if isinstance(node, ast.Starred):
+                    self.assertIsInstance(node.value, ast.Name)
                 if isinstance(node, ast.Constant):
                     self.assertNotIsInstance(node.value, (float, complex))
                 if isinstance(node, ast.Call) and isinstance(node.func, ast.Attribute):
