@@ -90,6 +90,19 @@ class Mover:
         raise AssertionError("it never is there")
 
 
+def mover_of(text):
+    """A flight's text as a Mover of the oracle."""
+    first, *rest = [line.split(" ") for line in text.split("\n")]
+    mover = Mover(" ".join(["ship", "m"] + first[1:]))
+    for word, number in rest:
+        if word == "turn":
+            mover.pace *= Fraction(number)
+        else:
+            mover.fly(Fraction(number))
+    mover.finish()
+    return mover
+
+
 def end_of(span):
     """The u at which a span ends; None if it goes on for ever."""
     _, u, _, pace, time = span
