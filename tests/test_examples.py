@@ -4,6 +4,17 @@ import doctest
 import pathlib
 import unittest
 
+from crewclocks.bench import Bench
+from crewclocks.errors import BadFactors, BadJournal, BadOpen
+from crewclocks.events import together
+from crewclocks.flashes import heard
+from crewclocks.flights import Flight
+from crewclocks.journals import read_journal
+from crewclocks.setting import echo, half
+from crewclocks.unknown import Open, put_in
+from crewclocks.within import own_flight, reach
+from helpers import event, worth
+
 README = pathlib.Path(__file__).resolve().parent.parent / "README.md"
 
 SECTION_4 = r"""
@@ -143,6 +154,104 @@ SECTION_11 = r"""
 [(-1, 1), (1, 2), (2, 1)]
 """
 
+SECTION_12 = r"""
+>>> from crewclocks.alike import joint, level, same_logs
+>>> from crewclocks.changes import edited
+>>> from crewclocks.skies import seen_sky, Sky
+>>> far = Sky('sky\nship a 0 0 1\nfly 1\nflash x\nship b 1 -1 1\nuntil left x')
+>>> slid = Sky('sky\nship a 0 0 1\nfly 1\nflash x\nship b 5/2 -1 1\nuntil left x')
+>>> [joint(far), level(far, 'u'), level(far, 'v')]
+[(('a', 'b'),), (('a',), ('b',)), (('a', 'b'),)]
+>>> same_logs(far, slid)
+('same', (((1, 1), ((0, 1), (0, 1))), ((1, 1), ((3, 2), (0, 1)))))
+>>> same_logs(far, seen_sky(far, (2, 1)))
+('same', (((2, 1), ((0, 1), (0, 1))), ((2, 1), ((0, 1), (0, 1)))))
+>>> same_logs(far, edited(far, ('set', 'a', 0, 'fly 2')))
+('unlike', 'a', 0)
+"""
+
+SECTION_13 = r"""
+>>> from crewclocks.flights import Flight
+>>> from crewclocks.within import least_own, leases, lease_wait, met_first, own_flight, reach, shows_leases, shows_own_flight, shows_reach
+>>> start, goal = ((0, 1), (0, 1)), ((5, 1), (5, 1))
+>>> [shows_reach(start, goal, (2, 1), ('plan', pieces)) for pieces in ((((2, 1), (2, 1)), ((1, 2), (2, 1))), (((1, 2), (2, 1)), ((2, 1), (2, 1))), (((1, 1), (5, 1)),))]
+[True, True, False]
+>>> [reach(start, ((9, 1), (2, 1)), (2, 1)), reach(start, ((8, 1), (2, 1)), (2, 1)), reach(goal, start, (2, 1)), reach(start, start, (1, 1))]
+[('beyond', 'u'), ('plan', (((2, 1), (4, 1)),)), ('behind',), ('plan', ())]
+>>> [least_own(start, goal, (2, 1)), own_flight(start, goal, (2, 1), (3, 1)), own_flight(start, goal, (2, 1), (6, 1)), own_flight(start, goal, (2, 1), (9, 2))[0]]
+[(4, 1), ('less', (4, 1)), ('more', (25, 1)), 'plan']
+>>> shows_own_flight(start, goal, (2, 1), (9, 2), ('plan', (((2, 1), (19, 14)), ((8, 11), (22, 7)))))
+True
+>>> flight = Flight('flight 4 0 1\nfly 6')
+>>> [met_first(flight, start, (2, 1)), met_first(flight, start, (1, 1))]
+[((4, 3), ((16, 3), (4, 3))), None]
+>>> [lease_wait((2, 1), (3, 1)), leases((2, 1), (3, 1), (12, 1)), leases((2, 1), (3, 1), (11, 1))[0]]
+[(12, 1), ('safe',), 'both']
+>>> shows_leases((2, 1), (3, 1), (11, 1), ('both', 'flight 0 0 1/2\nfly 13', 'flight 1 0 2\nfly 3'))
+True
+"""
+
+SECTION_14 = r"""
+>>> from crewclocks.unknown import Open, put_in, same_end, shows_same_end, sums
+>>> there = Open('open 0 0\nfly 2\nturn a\nfly 1\nback a\nfly 3')
+>>> first = Open('open 0 0\nturn a\nfly 1\nback a\nfly 5')
+>>> both = Open('open 0 0\nturn a\nfly 1\nturn b\nfly 2\nback b\nfly 3')
+>>> [sums(there), sums(both), there.whole, both.whole]
+[(((0, 0, 0, 0, 0, 0), (5, 1)), ((1, 0, 0, 0, 0, 0), (1, 1))), (((1, 0, 0, 0, 0, 0), (4, 1)), ((1, 1, 0, 0, 0, 0), (2, 1))), (6, 1), (6, 1)]
+>>> [same_end(there, first), same_end(there, both)[0]]
+[('same',), 'apart']
+>>> ones, some = ((1, 1),) * 6, ((2, 1), (1, 2)) + ((1, 1),) * 4
+>>> [shows_same_end(there, both, ('apart', ones)), shows_same_end(there, both, ('apart', some)), shows_same_end(there, first, ('same',))]
+[False, True, True]
+>>> [put_in(both, some).text.split('\n'), put_in(both, some).goal]
+[['flight 0 0 1', 'turn 2', 'fly 1', 'turn 1/2', 'fly 2', 'turn 2', 'fly 3'], ((10, 1), (4, 1))]
+"""
+
+SECTION_15 = r"""
+>>> from crewclocks.flights import Flight
+>>> from crewclocks.setting import alike, echo, half
+>>> home, far, drift = Flight('flight 0 0 1\nfly 20'), Flight('flight 6 -2 1\nfly 20'), Flight('flight 2 0 2\nfly 20')
+>>> [echo(home, far, (1, 1)), half(home, far, (1, 1)), half(home, far, (5, 2)), half(far, home, (1, 1))]
+[((3, 1), (9, 1)), ((3, 1), (2, 1)), ((9, 2), (2, 1)), ((7, 1), (-2, 1))]
+>>> [echo(home, drift, (1, 1)), half(home, drift, (1, 1)), half(home, drift, (3, 1)), echo(home, drift, (15, 1))]
+[((2, 1), (6, 1)), ((2, 1), (3, 2)), ((6, 1), (5, 2)), None]
+>>> [alike(home, far), alike(home, drift), alike(drift, Flight('flight 0 0 7'))]
+[True, False, True]
+"""
+
+SECTION_16 = r"""
+>>> from crewclocks.bench import Bench
+>>> bench = Bench('sky\nship a 0 0 1\nfly 1\nflash hi\nfly 4\nship b 2 0 1\nfly 5')
+>>> [bench.log('b'), bench.book.text.split('\n'), bench.done]
+[(((1, 1), 'heard', 'left', 'a', 'hi', (1, 1)),), ['book', 'ship a', 'ship b'], 0]
+>>> bench.gather()
+>>> [bench.book.text.split('\n')[3:], bench.asked(('a', (0, 1)), ('b', (0, 1)))[0]]
+[['heard b 1 left a 1 1'], 'ahead']
+>>> bench.alter(('set', 'b', 0, 'fly 1/2'))
+>>> [bench.log('b'), len(bench.book), bench.placed()[0]]
+[(), 1, 'placing']
+>>> bench.say('heard b 3 left a 1 1')
+>>> [bench.placed()[0], bench.done, len(bench.elder(1)[1])]
+['short', 3, 1]
+>>> bench.strike(0)
+>>> [bench.placed()[0], bench.book.text.split('\n')[3:], bench.done]
+['placing', ['heard b 3 left a 1 1'], 2]
+"""
+
+SECTION_17 = r"""
+>>> from crewclocks.desk import Desk
+>>> from crewclocks.journals import journal, read_journal
+>>> desk = Desk('bench\nsky\nship a 0 0 1\nfly 1\nflash hi\nfly 4\nship b 2 0 1\nfly 5')
+>>> [desk.say(line) for line in ('ships', 'log b', 'book', 'gather', 'book', 'asked a 0 b 0', 'placed')]
+['a b', '1 heard left a hi 1', 'none', 'ok', 'heard b 1 left a 1 1', 'ahead', 'placing']
+>>> [desk.say(line) for line in ('alter set b 0 fly 1/2', 'log b', 'log a', 'why b', 'say heard b 3 left a 1 1', 'placed')]
+['ok', 'none', '1 sent hi', 'done', 'ok', 'short v']
+>>> [desk.say('strike 0'), desk.say('book'), journal(desk.bench).split('\n')[8:]]
+['ok', 'heard b 3 left a 1 1', ['alter set b 0 fly 1/2', 'say heard b 3 left a 1 1']]
+>>> read_journal(journal(desk.bench)) == desk.bench
+True
+"""
+
 SECTION_18 = r"""
 >>> from crewclocks.errors import BadPace, CrewError
 >>> isinstance(BadPace(0), CrewError), BadPace(('a', 1)).value
@@ -182,11 +291,78 @@ class Examples(unittest.TestCase):
     def test_section_11(self):
         self.run_section("section 11", SECTION_11)
 
+    def test_section_12(self):
+        self.run_section("section 12", SECTION_12)
+
+    def test_section_13(self):
+        self.run_section("section 13", SECTION_13)
+
+    def test_section_14(self):
+        self.run_section("section 14", SECTION_14)
+
+    def test_section_15(self):
+        self.run_section("section 15", SECTION_15)
+
+    def test_section_16(self):
+        self.run_section("section 16", SECTION_16)
+
+    def test_section_17(self):
+        self.run_section("section 17", SECTION_17)
+
     def test_section_18(self):
         self.run_section("section 18", SECTION_18)
 
     def test_readme(self):
         self.run_section("README.md", README.read_text())
+
+
+class Remarks(unittest.TestCase):
+    """What the document tells below its examples of sections 12 to 17."""
+
+    def test_pieces_that_lead_from_start_to_goal(self):
+        start, goal, two = event(0, 0), event(5, 5), (2, 1)
+        self.assertEqual(own_flight(start, goal, (1, 1), (5, 1)), ("plan", (((1, 1), (5, 1)),)))
+        told = own_flight(start, goal, two, (9, 2))
+        self.assertEqual(told, ("plan", (((2, 1), (19, 14)), ((8, 11), (22, 7)))))
+        self.assertEqual(sum(worth(time) for _, time in reach(start, goal, two)[1]), 4)
+
+    def test_the_lease_that_is_broken(self):
+        grantor, holder = Flight("flight 0 0 1/2\nfly 13"), Flight("flight 1 0 2\nfly 3")
+        self.assertEqual(heard(holder, grantor.start), ("left", (0, 1)))
+        self.assertEqual(heard(grantor, holder.start), ("right", (2, 1)))
+        self.assertEqual((grantor.at((13, 1)), holder.goal), (event("13/2", 26), event(7, "3/2")))
+
+    def test_ends_of_open_flights(self):
+        there, both = Open("open 0 0\nfly 2\nturn a\nfly 1\nback a\nfly 3"), Open("open 0 0\nturn a\nfly 1\nturn b\nfly 2\nback b\nfly 3")
+        ones = ((1, 1),) * 6
+        some = ((2, 1), (1, 2)) + ones[2:]
+        self.assertEqual([put_in(plan, ones).goal for plan in (there, both)], [event(6, 6)] * 2)
+        self.assertEqual([put_in(plan, some).goal for plan in (there, both)], [event(7, "11/2"), event(10, 4)])
+        with self.assertRaises(BadOpen) as caught:
+            Open("open 0 0\nturn g")
+        self.assertEqual(caught.exception.value, 2)
+        with self.assertRaises(BadFactors) as caught:
+            put_in(there, ones[1:])
+        self.assertEqual(caught.exception.value, ones[1:])
+
+    def test_clocks_of_home_and_far(self):
+        home, far, drift = (Flight(text) for text in ("flight 0 0 1\nfly 20", "flight 6 -2 1\nfly 20", "flight 2 0 2\nfly 20"))
+        self.assertIs(together((1, 1), far.start, home.at((2, 1))), True)
+        self.assertEqual((far.at((3, 1)), home.at((9, 1))), (event(9, 1), event(9, 9)))
+        self.assertEqual((echo(home, far, (1, 1)), half(home, far, (1, 1))), (((3, 1), (9, 1)), ((3, 1), (2, 1))))
+        self.assertEqual(drift.at((6, 1)), event(14, 3))
+
+    def test_the_bench_of_two_ships(self):
+        bench = Bench("sky\nship a 0 0 1\nfly 1\nflash hi\nfly 4\nship b 2 0 1\nfly 5")
+        bench.gather()
+        bench.say("heard b 3 left a 1 1")
+        self.assertEqual(bench.placed()[:2], ("short", "v"))
+        self.assertEqual(Flight("flight 2 0 1\nfly 5").at((1, 1)), event(3, 1))
+
+    def test_a_journal_that_lacks_a_ship(self):
+        with self.assertRaises(BadJournal) as caught:
+            read_journal("bench\nsky\ngather")
+        self.assertEqual(caught.exception.value, 3)
 
 
 if __name__ == "__main__":

@@ -72,6 +72,38 @@ FUNCTIONS = {
         "one_sky": ["book"],
         "shows_one_sky": ["book", "value"],
     },
+    "alike": {
+        "joint": ["sky"],
+        "level": ["sky", "plane"],
+        "same_logs": ["one", "other"],
+        "shows_same_logs": ["one", "other", "value"],
+    },
+    "within": {
+        "reach": ["one", "other", "most"],
+        "shows_reach": ["one", "other", "most", "value"],
+        "least_own": ["one", "other", "most"],
+        "own_flight": ["one", "other", "most", "own"],
+        "shows_own_flight": ["one", "other", "most", "own", "value"],
+        "met_first": ["flight", "event", "most"],
+        "lease_wait": ["most", "hold"],
+        "leases": ["most", "hold", "wait"],
+        "shows_leases": ["most", "hold", "wait", "value"],
+    },
+    "unknown": {
+        "sums": ["plan"],
+        "put_in": ["plan", "factors"],
+        "same_end": ["one", "other"],
+        "shows_same_end": ["one", "other", "value"],
+    },
+    "setting": {
+        "echo": ["one", "other", "time"],
+        "half": ["one", "other", "time"],
+        "alike": ["one", "other"],
+    },
+    "journals": {
+        "journal": ["bench"],
+        "read_journal": ["text"],
+    },
 }
 METHODS = {
     ("flights", "Flight"): {
@@ -91,6 +123,42 @@ METHODS = {
         "__len__": ["self"],
         "__eq__": ["self", "other"],
     },
+    ("unknown", "Open"): {
+        "__init__": ["self", "text"],
+        "__len__": ["self"],
+        "__eq__": ["self", "other"],
+    },
+    ("bench", "Bench"): {
+        "__init__": ["self", "text"],
+        "__eq__": ["self", "other"],
+        "alter": ["self", "edit"],
+        "say": ["self", "line"],
+        "unsay": ["self", "number"],
+        "gather": ["self"],
+        "strike": ["self", "number"],
+        "log": ["self", "name"],
+        "elder": ["self", "number"],
+        "placed": ["self"],
+        "asked": ["self", "one", "other"],
+        "undo": ["self"],
+        "redo": ["self"],
+        "trial": ["self"],
+        "keep": ["self"],
+        "tried": ["self", "look", "keep"],
+        "copy": ["self"],
+    },
+    ("desk", "Desk"): {
+        "__init__": ["self", "text"],
+        "say": ["self", "line"],
+    },
+}
+ATTRIBUTES = {
+    ("flights", "Flight", "flight 0 0 1"): "text start pace pieces whole goal",
+    ("skies", "Sky", "sky\nship a 0 0 1"): "text names ships",
+    ("books", "Book", "book\nship a"): "text names felt sayings",
+    ("unknown", "Open", "open 0 0"): "text start whole",
+    ("bench", "Bench", "sky\nship a 0 0 1"): "sky book done",
+    ("desk", "Desk", "bench\nsky\nship a 0 0 1"): "bench",
 }
 
 
@@ -119,6 +187,16 @@ class Interface(unittest.TestCase):
             for method, expected in methods.items():
                 self.assertIn(method, vars(found))
                 self.assertEqual(parameters(vars(found)[method]), expected, method)
+
+    def test_attributes_are_set_when_objects_are_made(self):
+        for (module, name, text), attributes in ATTRIBUTES.items():
+            made = getattr(importlib.import_module(f"crewclocks.{module}"), name)(text)
+            self.assertLessEqual(set(attributes.split()), set(vars(made)))
+
+    def test_keep_of_tried_is_passed_by_name_alone(self):
+        keep = inspect.signature(importlib.import_module("crewclocks.bench").Bench.tried).parameters["keep"]
+        self.assertIs(keep.kind, inspect.Parameter.KEYWORD_ONLY)
+        self.assertIs(keep.default, False)
 
 
 if __name__ == "__main__":

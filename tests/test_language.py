@@ -34,7 +34,7 @@ BARRED_NAMES = set(
 
 
 def bound_names(tree):
-    """Names that the file gives a meaning: targets, parameters, functions, classes, imports."""
+    """Names that the file gives a meaning: targets, parameters, functions, classes, imports, caught errors."""
     for node in ast.walk(tree):
         if isinstance(node, ast.Name) and not isinstance(node.ctx, ast.Load):
             yield node.id
@@ -44,6 +44,8 @@ def bound_names(tree):
             yield node.name
         elif isinstance(node, ast.alias):
             yield node.asname or node.name
+        elif isinstance(node, ast.ExceptHandler) and node.name:
+            yield node.name
 
 
 def local_names(function):
@@ -141,7 +143,8 @@ class Language(unittest.TestCase):
     def test_names(self):
         for _, _, tree in self.each_file():
             for name in bound_names(tree):
-                self.assertNotIn(name, vars(builtins))
+                # Where a doctest ran in this process, "_" stands among them.
+                self.assertNotIn(name, set(vars(builtins)) - {"_"})
                 self.assertNotIn(name, BARRED_NAMES)
             own = set(bound_names(tree))
             for node in ast.walk(tree):
@@ -155,6 +158,24 @@ class Language(unittest.TestCase):
             for node in ast.walk(tree):
                 if isinstance(node, ast.FunctionDef):
                     self.assertFalse(taken & set(local_names(node)), node.name)
+
+    def test_no_method_is_an_attribute_of_its_class(self):
+        for _, _, tree in self.each_file():
+            for node in tree.body:
+                if isinstance(node, ast.ClassDef):
+                    methods = {part.name for part in node.body if isinstance(part, ast.FunctionDef)}
+                    attributes = {part.attr for part in ast.walk(node)
+                                  if isinstance(part, ast.Attribute) and isinstance(part.ctx, ast.Store)}
+                    self.assertFalse(methods & attributes, node.name)
+
+    def test_exits_assign_and_ask_alone(self):
+        kinds = (ast.Assign, ast.If, ast.Attribute, ast.Name, ast.Load, ast.Store, ast.BoolOp, ast.Or, ast.And, ast.Compare, ast.Is, ast.IsNot,
+                 ast.Constant, ast.FunctionDef, ast.arguments, ast.arg)
+        for _, _, tree in self.each_file():
+            for node in ast.walk(tree):
+                if isinstance(node, ast.FunctionDef) and node.name == "__exit__":
+                    for part in ast.walk(node):
+                        self.assertIsInstance(part, kinds)
 
     def test_strings(self):
         for _, _, tree in self.each_file():
